@@ -1,0 +1,1 @@
+"""Leastcross: the fewest crossings of a drawn web."""
