@@ -1,5 +1,6 @@
 """Drawings, wrong things and helpers that several tests use."""
 
+import itertools
 import random
 
 # Nothing in this tuple is a place, a number of a crossing or a side of any drawing below.
@@ -44,14 +45,51 @@ THREE_TIES = (
 )
 PLAIN_DRAWINGS = (ONE_PLACE, TEN_PLACES, ROUND_FOUR, FALLEN_FOUR, TWICE, COMMON_PLACE, THREE_TIES)
 
-EIGHTEEN = tuple((i, j) for i in range(7) for j in range(i + 1, 7))[:18]
+
+def all_ties(n):
+    """All ties of n places, rising."""
+    return tuple(itertools.combinations(range(n), 2))
+
+
+EIGHTEEN = all_ties(7)[:18]
+
+FOUR_TIED = (4, all_ties(4))
+FIVE_TIED = (5, all_ties(5))
+SIX_TIED = (6, all_ties(6))
+THREE_TO_THREE = (6, tuple((i, j) for i in range(3) for j in range(3, 6)))
+# Two rings of five places, the one tied by a star: ten places, fifteen ties, each place with three.
+PETERSEN = (10, tuple(sorted([tuple(sorted((i, (i + 1) % 5))) for i in range(5)]
+                             + [(i, i + 5) for i in range(5)]
+                             + [tuple(sorted((i + 5, (i + 2) % 5 + 5))) for i in range(5)])))
+
+
+def any_web(chance, most_places=10, most_ties=18):
+    """A web by a random.Random."""
+    n = chance.randint(1, most_places)
+    ties = all_ties(n)
+    return (n, tuple(sorted(chance.sample(ties, min(len(ties), chance.randint(0, most_ties))))))
+
+
+def led_over(web, *some):
+    """A web with each of some ties led over a new place of its own."""
+    n, ties = web
+    for i, j in some:
+        ties = tuple(tie for tie in ties if tie != (i, j)) + ((i, n), (j, n))
+        n += 1
+    return (n, tuple(sorted(ties)))
+
+
+def named_anew(web, chance):
+    """The same web with its places named in another turn."""
+    n, ties = web
+    names = list(range(n))
+    chance.shuffle(names)
+    return (n, tuple(sorted(tuple(sorted((names[i], names[j]))) for i, j in ties)))
 
 
 def any_drawing(chance):
     """A drawing, which need not stand and need not be plain, by a random.Random."""
-    n = chance.randint(1, 10)
-    all_ties = [(i, j) for i in range(n) for j in range(i + 1, n)]
-    ties = tuple(sorted(chance.sample(all_ties, min(len(all_ties), chance.randint(0, 18)))))
+    n, ties = any_web(chance)
     rings = []
     for place in range(n):
         ring = [i + j - place for i, j in ties if place in (i, j)]
@@ -120,3 +158,13 @@ def is_of_wholes(thing):
     if type(thing) is tuple:
         return all(is_of_wholes(item) for item in thing)
     return type(thing) is int
+
+
+def any_points(chance, n, far=30):
+    """As many unlike points as told, by a random.Random."""
+    points = []
+    while len(points) < n:
+        point = (chance.randint(-far, far), chance.randint(-far, far))
+        if point not in points:
+            points.append(point)
+    return tuple(points)

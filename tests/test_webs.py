@@ -6,17 +6,7 @@ import unittest
 
 from leastcross.errors import CrossError, NoWeb
 from leastcross.webs import by_turns, pairs, parts, web
-from samples import EIGHTEEN, JUNK, is_of_wholes
-
-
-def all_ties(n):
-    return tuple(itertools.combinations(range(n), 2))
-
-
-def any_web(chance):
-    n = chance.randint(1, 10)
-    ties = all_ties(n)
-    return web(n, tuple(chance.sample(ties, min(len(ties), chance.randint(0, 18)))))
+from samples import EIGHTEEN, JUNK, all_ties, any_web, is_of_wholes
 
 
 class Made(unittest.TestCase):
