@@ -74,16 +74,7 @@ def odd_set(web, met):
 
 def even_rows(all_pairs):
     """Tell rows of which all sets are put together that are even at all turns."""
-    width = len(all_pairs) + 1
-    kept = {}
-    even = []
-    for row in rows_with_turns(all_pairs):
-        rest = put_together(row, kept, width)
-        if rest.bit_length() > width:
-            kept[rest.bit_length()] = rest
-        else:
-            even.append(rest)
-    return even
+    return sifted(rows_with_turns(all_pairs), len(all_pairs) + 1)[1]
 
 
 def rows_with_turns(all_pairs):
@@ -101,8 +92,25 @@ def rows_with_turns(all_pairs):
     return rows
 
 
+def sifted(rows, width):
+    """Tell (kept, low): rows by which bits from width on are taken away, and rows that have no such bits left.
+
+    Kept rows stand under their lengths. Low ones are put together of rows; all that rows make without bits from
+    width on is put together of low ones.
+    """
+    kept = {}
+    low = []
+    for row in rows:
+        rest = put_together(row, kept, width)
+        if rest.bit_length() > width:
+            kept[rest.bit_length()] = rest
+        else:
+            low.append(rest)
+    return (kept, low)
+
+
 def put_together(row, kept, width):
-    """Put kept rows, each under its length, to a row until its bits from width on are gone, if they can be."""
+    """Put kept rows to a row until its bits from width on are gone, if they can be."""
     while row.bit_length() > width and row.bit_length() in kept:
         row ^= kept[row.bit_length()]
     return row

@@ -62,6 +62,16 @@ PETERSEN = (10, tuple(sorted([tuple(sorted((i, (i + 1) % 5))) for i in range(5)]
                              + [(i, i + 5) for i in range(5)]
                              + [tuple(sorted((i + 5, (i + 2) % 5 + 5))) for i in range(5)])))
 
+FLAT_WEBS = (
+    (1, ()), (10, ()), (2, ((0, 1),)), (3, all_ties(3)), FOUR_TIED, (5, all_ties(5)[1:]),
+    (10, tuple((i, i + 1) for i in range(9)) + ((0, 9),)), (6, THREE_TO_THREE[1][1:]),
+    (10, tuple((0, j) for j in range(1, 10))),
+    # Six places, each tied to all but the opposite one; and a box of eight places.
+    (6, tuple(tie for tie in all_ties(6) if tie not in ((0, 1), (2, 3), (4, 5)))),
+    (8, tuple((i, j) for i, j in all_ties(8) if (i ^ j) in (1, 2, 4))),
+)
+OTHER_WEBS = (FIVE_TIED, THREE_TO_THREE, SIX_TIED, PETERSEN, (7, EIGHTEEN), (6, all_ties(6)[2:]), (10, EIGHTEEN))
+
 
 def any_web(chance, most_places=10, most_ties=18):
     """A web by a random.Random."""

@@ -8,86 +8,10 @@ import unittest
 from bent import bent_of
 from leastcross.odd import is_odd_set, odd_set, turned
 from leastcross.straight import straight
-from leastcross.webs import by_turns, pairs
-from samples import (EIGHTEEN, FIVE_TIED, FOUR_TIED, JUNK, PETERSEN, SIX_TIED, THREE_TO_THREE, all_ties, any_points,
-                     any_web, changed, is_of_wholes, led_over, named_anew, repr_of)
-
-FLAT_WEBS = (
-    (1, ()), (10, ()), (2, ((0, 1),)), (3, all_ties(3)), FOUR_TIED, (5, all_ties(5)[1:]),
-    (10, tuple((i, i + 1) for i in range(9)) + ((0, 9),)), (6, THREE_TO_THREE[1][1:]),
-    (10, tuple((0, j) for j in range(1, 10))),
-    # Three ties to each of six places, but none to itself on the other side of a box; and a box of eight places.
-    (6, tuple(tie for tie in all_ties(6) if tie not in ((0, 1), (2, 3), (4, 5)))),
-    (8, tuple((i, j) for i, j in all_ties(8) if (i ^ j) in (1, 2, 4))),
-)
-OTHER_WEBS = (FIVE_TIED, THREE_TO_THREE, SIX_TIED, PETERSEN, (7, EIGHTEEN), (6, all_ties(6)[2:]), (10, EIGHTEEN))
-
-
-def all_turns(web):
-    n, ties = web
-    return [(tie, place) for tie in ties for place in range(n) if place not in tie]
-
-
-def some_turns(web, chance, most=12):
-    turns = all_turns(web)
-    return tuple(chance.choice(turns) for each in range(chance.randint(0, most))) if turns else ()
-
-
-def turned_by_words(web, turns):
-    """Point 16, word by word."""
-    told = []
-    for one, other in pairs(web):
-        number = 1 if by_turns(one, other) else 0
-        for tie, place in turns:
-            number += (tie == one and place in other) + (tie == other and place in one)
-        if number % 2 == 1:
-            told.append((one, other))
-    return tuple(told)
-
-
-def is_even_by_words(web, some):
-    """The first row of point 17, word by word."""
-    n, ties = web
-    for tie in ties:
-        for place in range(n):
-            if place not in tie:
-                number = sum(1 for one, other in some
-                             if (one == tie and place in other) or (other == tie and place in one))
-                if number % 2 == 1:
-                    return False
-    return True
-
-
-def is_odd_set_by_words(web, some):
-    """Point 17 for tuples of pairs of the web, word by word."""
-    rising = all(one < other for one, other in zip(some, some[1:]))
-    return rising and is_even_by_words(web, some) and sum(by_turns(*pair) for pair in some) % 2 == 1
-
-
-def turns_within(web, met):
-    """Turns whose pairs are all met, or None where there are none: found with sets, turn by turn.
-
-    Where there are such turns there is no odd set without a met pair, for an odd number of its pairs is among
-    those of the turns.
-    """
-    kept = {}
-
-    def lessened(changes, turns):
-        while changes and max(changes) in kept:
-            other_changes, other_turns = kept[max(changes)]
-            changes, turns = changes ^ other_changes, turns ^ other_turns
-        return changes, turns
-
-    free = set(pairs(web)) - set(met)
-    for tie, place in all_turns(web):
-        start = frozenset(pair for pair in free if (tie == pair[0] and place in pair[1])
-                          or (tie == pair[1] and place in pair[0]))
-        changes, turns = lessened(start, frozenset([(tie, place)]))
-        if changes:
-            kept[max(changes)] = changes, turns
-    changes, turns = lessened(frozenset(pair for pair in free if by_turns(*pair)), frozenset())
-    return None if changes else tuple(sorted(turns))
-
+from leastcross.webs import pairs
+from oddness import is_even_by_words, is_odd_set_by_words, some_turns, turned_by_words, turns_within
+from samples import (EIGHTEEN, FIVE_TIED, FLAT_WEBS, FOUR_TIED, JUNK, OTHER_WEBS, PETERSEN, SIX_TIED, THREE_TO_THREE,
+                     all_ties, any_points, any_web, changed, is_of_wholes, led_over, named_anew, repr_of)
 
 class Turned(unittest.TestCase):
     """Point 16."""

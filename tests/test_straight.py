@@ -193,11 +193,13 @@ class Drawn(unittest.TestCase):
 
     def test_straight_right_and_straight_left(self):
         web = (5, ((0, 1), (0, 2), (0, 3), (0, 4)))
-        for turns in itertools.permutations(((1, 0), (0, 1), (-1, 0), (0, -1))):
-            ring = straight(web, ((0, 0),) + turns)[2][0]
-            to_left = {(1, 0): (0, 1), (0, 1): (-1, 0), (-1, 0): (0, -1), (0, -1): (1, 0)}
-            for place, behind in zip(ring, ring[1:] + ring[:1]):
-                self.assertEqual(to_left[turns[place - 1]], turns[behind - 1])
+        to_left = {(1, 0): (0, 1), (0, 1): (-1, 0), (-1, 0): (0, -1), (0, -1): (1, 0)}
+        for turns in itertools.permutations(to_left):
+            for x, y in ((0, 0), (50, -20), (-50, 20), (50, 20), (20, 50), (-20, -50)):
+                points = ((x, y),) + moved(turns, lambda right, up: (x + right, y + up))
+                ring = straight(web, points)[2][0]
+                for place, behind in zip(ring, ring[1:] + ring[:1]):
+                    self.assertEqual(to_left[turns[place - 1]], turns[behind - 1])
 
     def test_side(self):
         web = (4, ((0, 1), (2, 3)))
