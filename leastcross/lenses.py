@@ -17,24 +17,27 @@ def lenses_of_plain(drawn):
     """Tell all lenses of a plain drawing, rising."""
     found = []
     for one, way in zip(drawn[1], drawn[3]):
-        for other in drawn[1]:
-            if one != other:
-                found.extend(lenses_of_two(one, other, numbers_with(drawn, way, one, other)))
+        numbers = numbers_by_tie(drawn, one, way)
+        for other in sorted(numbers):
+            found.extend(lenses_of_two(one, other, numbers[other]))
     return tuple(found)
 
 
-def numbers_with(drawn, way, one, other):
-    """Tell the numbers of the crossings with other that stand in the way of one, as they come."""
-    pair = (min(one, other), max(one, other))
-    return [number for number in way if drawn[4][number][:2] == pair]
+def numbers_by_tie(drawn, one, way):
+    """Tell for each tie that one crosses the numbers of their crossings, as they come in the way of one."""
+    numbers = {}
+    for number in way:
+        first, second, side = drawn[4][number]
+        numbers.setdefault(second if first == one else first, []).append(number)
+    return numbers
 
 
 def lenses_of_two(one, other, numbers):
-    """Tell the lenses of one with other, rising, of the numbers of their crossings as they come on one."""
+    """Tell the lenses of one with other, which it crosses, of the numbers of their crossings as they come on one."""
     found = [(one, other, first, second) for first, second in zip(numbers, numbers[1:])]
-    if numbers and one[0] in other:
+    if one[0] in other:
         found.append((one, other, AT_PLACE, numbers[0]))
-    if numbers and one[1] in other:
+    if one[1] in other:
         found.append((one, other, AT_PLACE, numbers[-1]))
     return sorted(found)
 
